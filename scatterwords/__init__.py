@@ -1,0 +1,1 @@
+"""Scatterwords: words with endless stretches, formulas about them, and steps that rewrite them."""
