@@ -70,3 +70,41 @@ def is_finite(word):
     if word[0] == "times":
         return is_finite(word[1])
     return word[0] in ("empty", "letter")
+
+
+def some_places(word, copies):
+    """Return the pairs of address and letter of places of a word, in their order.
+
+    Of endless copies only those are taken whose number is less than copies.
+    """
+    if word[0] == "letter":
+        return [((), word[1])]
+    if word[0] == "join":
+        numbered = list(enumerate(word[1]))
+    elif word[0] == "times":
+        numbered = [(number, word[1]) for number in range(word[2])]
+    elif word[0] == "right":
+        numbered = [(number, word[1]) for number in range(copies)]
+    elif word[0] == "left":
+        numbered = [(number, word[1]) for number in reversed(range(copies))]
+    else:
+        numbered = []
+    return [((number, *address), letter) for number, part in numbered
+            for address, letter in some_places(part, copies)]
+
+
+def some_formulas(levels):
+    """Return many formulas with at most so many levels, all kinds of formulas among them."""
+    formulas = [
+        ("letter", "a", "x"), ("letter", "c", "z"), ("before", "x", "y"), ("next", "y", "x"),
+        ("same", "z", "z"), ("in", "y", "X"), ("in", "x", "Z"), ("named", "oak"),
+    ]
+    for _ in range(levels - 1):
+        formulas = formulas + [
+            *[("not", formula) for formula in formulas],
+            *[(kind, variable, formula) for formula in formulas
+              for kind, variable in (("some", "x"), ("all", "y"), ("some", "X"), ("all", "Z"))],
+            *[(kind, one, other) for kind in ("and", "or")
+              for one, other in itertools.product(formulas[-4:], formulas[:6])],
+        ]
+    return formulas

@@ -30,6 +30,33 @@ MODULES = {
             "names_in": "(word)",
         },
     ),
+    "places": (
+        (),
+        {
+            "letter_at": "(word, address)",
+            "compare": "(word, one, other)",
+            "cut": "(word, address)",
+            "first_place": "(word)",
+            "last_place": "(word)",
+            "walk": "(word, *, many=10)",
+        },
+    ),
+    "formulas": (
+        ("PLACES", "SETS"),
+        {
+            "free_variables": "(formula)",
+            "formula_size": "(formula)",
+            "nesting": "(formula)",
+            "formula_names": "(formula)",
+        },
+    ),
+    "formulatext": (
+        ("MAX_NODES", "MAX_NESTING"),
+        {
+            "parse_formula": "(text)",
+            "format_formula": "(formula)",
+        },
+    ),
 }
 ERRORS = {
     "InvalidText": "(position)",
