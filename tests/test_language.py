@@ -39,7 +39,14 @@ BARRED_NAMES = set(
     "breakpoint builtins compile copyright credits delattr dir eval exec exit gc getattr globals "
     "hasattr help id importlib license locals methodcaller os quit setattr super type vars sys"
     .split())
-NOT_ALLOWED = (ast.Global, ast.AsyncFunctionDef, ast.Await, ast.Import)
+# The methods of builtin values that may be called.
+BUILTIN_METHODS = set(
+    "append clear copy count endswith extend find get index insert isalnum isalpha isdigit islower "
+    "isspace isupper items join keys ljust lower lstrip partition pop remove replace reverse rfind "
+    "rjust rpartition rsplit rstrip setdefault split splitlines startswith strip update upper values "
+    "zfill bit_length".split())
+BUILTIN_VALUES = ("", 1, [], {}, b"", (), set())
+NOT_ALLOWED = (ast.GeneratorExp, ast.Global, ast.AsyncFunctionDef, ast.Await, ast.Import)
 
 
 def nodes_of(path, *kinds):
@@ -128,7 +135,8 @@ class EachFile(unittest.TestCase):
                 for node in nodes_of(path, ast.Name):
                     self.assertNotIn(node.id, barred)
                 for name in bound_names(path):
-                    if not name.startswith("__"):
+                    # The interface asks for a method that sets have, too.
+                    if not name.startswith("__") and name != "difference":
                         self.assertFalse(hasattr(builtins, name), name)
 
     def test_names(self):
@@ -171,6 +179,77 @@ class EachFile(unittest.TestCase):
                 inner += [node.id for node in nodes_of(path, ast.Name)
                           if isinstance(node.ctx, ast.Store)]
                 self.assertEqual(set(outer) & set(inner), set())
+
+
+def classes_of_package():
+    """Return the dict of the classes of all files."""
+    return {node.name: node for path in FILES for node in nodes_of(path, ast.ClassDef)}
+
+
+def methods_of(node):
+    """Return the names of the methods and properties of a class."""
+    return {row.name for row in node.body if isinstance(row, ast.FunctionDef)}
+
+
+def attributes_of(node):
+    """Return the names of the attributes that a class assigns to its objects."""
+    return {row.attr for row in ast.walk(node)
+            if isinstance(row, ast.Attribute) and isinstance(row.ctx, ast.Store)}
+
+
+class Objects(unittest.TestCase):
+    """The rules about methods and attributes."""
+
+    def test_methods_that_are_called(self):
+        own = set().union(*[methods_of(node) for node in classes_of_package().values()])
+        for path in FILES:
+            with self.subTest(path.name):
+                for node in nodes_of(path, ast.Call):
+                    if isinstance(node.func, ast.Attribute):
+                        self.assertIn(node.func.attr, BUILTIN_METHODS | own)
+
+    def test_no_name_is_a_method_and_an_attribute(self):
+        nodes = classes_of_package().values()
+        methods = set().union(*[methods_of(node) for node in nodes])
+        attributes = set().union(*[attributes_of(node) for node in nodes])
+        self.assertEqual(methods & attributes, set())
+
+    def test_names_of_methods_and_attributes(self):
+        for node in classes_of_package().values():
+            for name in methods_of(node) | attributes_of(node):
+                for value in BUILTIN_VALUES:
+                    # The interface asks for a method that sets have, too.
+                    if not name.startswith("__") and name != "difference":
+                        self.assertFalse(hasattr(value, name), name)
+
+    def test_attributes_that_are_read_are_assigned(self):
+        nodes = classes_of_package().values()
+        known = set().union(*[methods_of(node) | attributes_of(node) for node in nodes])
+        known |= {"MOST", "__class__", "__name__", "setter"} | BUILTIN_METHODS
+        for path in FILES:
+            for node in nodes_of(path, ast.Attribute):
+                self.assertIn(node.attr, known)
+
+    def test_decorators(self):
+        for path in FILES:
+            for node in nodes_of(path, ast.FunctionDef, ast.ClassDef):
+                for row in node.decorator_list:
+                    self.assertRegex(ast.unparse(row), r"\A(property|classmethod|\w+\.setter)\Z")
+
+    def test_stars_in_calls_stand_before_names(self):
+        for path in FILES:
+            for node in nodes_of(path, ast.Call):
+                for row in node.args:
+                    if isinstance(row, ast.Starred):
+                        self.assertIsInstance(row.value, (ast.Name, ast.Attribute))
+                self.assertNotIn(None, [row.arg for row in node.keywords])
+
+    def test_what_is_iterated_on_the_spot(self):
+        for path in FILES:
+            for node in nodes_of(path, ast.Assign, ast.Return):
+                if isinstance(node.value, ast.Call) and isinstance(node.value.func, ast.Name):
+                    self.assertNotIn(node.value.func.id, ("zip", "enumerate", "reversed", "range",
+                                                          "map", "filter", "iter"))
 
 
 class AllFiles(unittest.TestCase):
