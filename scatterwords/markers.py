@@ -1,6 +1,6 @@
 """Markers: the label of a place of a word, by what is before the place and behind it."""
 
-from scatterwords.algebras import BITS, NOTHING, word_value
+from scatterwords.algebras import BITS, word_value
 from scatterwords.words import LETTERS
 
 
@@ -17,21 +17,21 @@ class Marker:
         rows = algebra.rows
         chosen = [value for value, mask in enumerate(algebra.masks) if mask == BITS["x"]]
         plain = [value for value, mask in enumerate(algebra.masks) if mask == 0]
-        ahead = _classes(plain, [[algebra.labels[rows[value][at]] for at in chosen]
+        ahead = _classes(plain, [[algebra.labels[rows[value][place]] for place in chosen]
                                  for value in plain])
-        behind = _classes(plain, [[algebra.labels[rows[at][value]] for at in chosen]
+        behind = _classes(plain, [[algebra.labels[rows[place][value]] for place in chosen]
                                   for value in plain])
         # For each class the dict of the classes with a word of some value next to the place.
         self.ahead_steps = [{value: ahead[rows[group][value]] for value in plain}
                             for group in _examples(ahead)]
         self.behind_steps = [{value: behind[rows[value][group]] for value in plain}
                              for group in _examples(behind)]
-        self.place_labels = {
-            (at, letter, against): algebra.labels[rows[rows[one][algebra.letter_values[
-                (letter, BITS["x"])]]][other]]
-            for at, one in enumerate(_examples(ahead))
-            for letter in LETTERS
-            for against, other in enumerate(_examples(behind))}
+        self.place_labels = {}
+        for at, one in enumerate(_examples(ahead)):
+            for letter in LETTERS:
+                row = rows[rows[one][algebra.letter_values[(letter, BITS["x"])]]]
+                for against, other in enumerate(_examples(behind)):
+                    self.place_labels[(at, letter, against)] = algebra.labels[row[other]]
 
     def label_between(self, ahead, letter, behind):
         """Return the label of a place with a letter between two words."""

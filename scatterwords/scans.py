@@ -96,16 +96,16 @@ class Scan:
         self.node_numbers = {}
         self.counts = {}
         self.hits = {}
-        self.top = self._enter(word)
+        self.top = self._number_of(word)
 
-    def _enter(self, word):
+    def _number_of(self, word):
         """Return the number of the node of a word."""
         kind = word[0]
         inner = ()
         if kind == "join":
-            inner = tuple([self._enter(part) for part in word[1]])
+            inner = tuple([self._number_of(part) for part in word[1]])
         elif kind in ("times", "right", "left"):
-            inner = (self._enter(word[1]),)
+            inner = (self._number_of(word[1]),)
         more = word[-1] if kind in ("times", "letter") else None
         node = (kind, inner, more)
         if node not in self.node_numbers:

@@ -140,9 +140,9 @@ class PlaceSource:
         without_behind, chosen_behind = other
         found = 0
         for value in bits_of(chosen):
-            found = found | 1 << rows[value][without_behind]
+            found = found | (1 << rows[value][without_behind])
         for value in bits_of(chosen_behind):
-            found = found | 1 << rows[without][value]
+            found = found | (1 << rows[without][value])
         return (rows[without][without_behind], found)
 
     def right_key(self, one):
@@ -152,8 +152,8 @@ class PlaceSource:
         # Before the copy with the place there may be any number of copies without it.
         for value in bits_of(one[1]):
             value = rows[value][endless]
-            while not found >> value & 1:
-                found = found | 1 << value
+            while not found & (1 << value):
+                found = found | (1 << value)
                 value = rows[one[0]][value]
         return (endless, found)
 
@@ -163,8 +163,8 @@ class PlaceSource:
         found = 0
         for value in bits_of(one[1]):
             value = rows[endless][value]
-            while not found >> value & 1:
-                found = found | 1 << value
+            while not found & (1 << value):
+                found = found | (1 << value)
                 value = rows[value][one[0]]
         return (endless, found)
 
@@ -173,9 +173,9 @@ class PlaceSource:
 
 
 class SetSource:
-    """The source of "some set": keys have the mask for some set, and the mask of the places.
+    """The source of "some set": keys are masks.
 
-    Bit v of the first mask says whether the set can be chosen so that the value is v.
+    Bit v of a mask says whether the set can be chosen so that the value is v.
     """
 
     def __init__(self, algebra, bit):
@@ -184,39 +184,13 @@ class SetSource:
         self.variables = algebra.variables - bit
 
     def empty_key(self):
-        return (1 << NOTHING, 0)
+        return 1 << NOTHING
 
     def letter_key(self, letter, mask):
         values = self.algebra.letter_values
-        found = 1 << values[(letter, mask)] | 1 << values[(letter, mask | self.bit)]
-        return (found, mask & PLACE_BITS)
+        return (1 << values[(letter, mask)]) | (1 << values[(letter, mask | self.bit)])
 
     def product_key(self, one, other):
-        return (self._products(one[0], other[0]), one[1] | other[1])
-
-    def right_key(self, one):
-        # However the set is chosen in the copies, they can be grouped so that all groups but
-        # the first one have equal values: so the value is s before endlessly many e, with two
-        # products s and e of values that the set can give to one copy.
-        endless = self.algebra.endless_right
-        found = new = _mask_of([endless[value] for value in bits_of(self._powers(one[0]))])
-        while new:
-            new = self._products(one[0], new) & ~found
-            found = found | new
-        return (found, 0)
-
-    def left_key(self, one):
-        endless = self.algebra.endless_left
-        found = new = _mask_of([endless[value] for value in bits_of(self._powers(one[0]))])
-        while new:
-            new = self._products(new, one[0]) & ~found
-            found = found | new
-        return (found, 0)
-
-    def label_of(self, key):
-        return True in [self.algebra.labels[value] for value in bits_of(key[0])]
-
-    def _products(self, one, other):
         """Return the mask of the products of values in two masks."""
         rows = self.algebra.rows
         behind = bits_of(other)
@@ -224,14 +198,36 @@ class SetSource:
         for value in bits_of(one):
             row = rows[value]
             for other_value in behind:
-                found = found | 1 << row[other_value]
+                found = found | (1 << row[other_value])
         return found
+
+    def right_key(self, one):
+        # However the set is chosen in the copies, they can be grouped so that all groups but
+        # the first one have equal values: so the value is s before endlessly many e, with two
+        # products s and e of values that the set can give to one copy.
+        endless = self.algebra.endless_right
+        found = new = _mask_of([endless[value] for value in bits_of(self._powers(one))])
+        while new:
+            new = self.product_key(one, new) & ~found
+            found = found | new
+        return found
+
+    def left_key(self, one):
+        endless = self.algebra.endless_left
+        found = new = _mask_of([endless[value] for value in bits_of(self._powers(one))])
+        while new:
+            new = self.product_key(new, one) & ~found
+            found = found | new
+        return found
+
+    def label_of(self, key):
+        return True in [self.algebra.labels[value] for value in bits_of(key)]
 
     def _powers(self, mask):
         """Return the mask of the products of one or more values in a mask."""
         found = new = mask
         while new:
-            new = self._products(new, mask) & ~found
+            new = self.product_key(new, mask) & ~found
             found = found | new
         return found
 
@@ -250,7 +246,7 @@ def _mask_of(values):
     """Return the mask with some bits."""
     found = 0
     for value in values:
-        found = found | 1 << value
+        found = found | (1 << value)
     return found
 
 

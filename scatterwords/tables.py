@@ -161,24 +161,24 @@ def _arrangement(algebra):
     """Return the list of the values of an algebra in the order in which [8] finds them."""
     order = []
     is_found = [False] * len(algebra.masks)
-    _add_value(NOTHING, order, is_found)
+    _put_value(NOTHING, order, is_found)
     for letter in LETTERS:
-        _add_value(algebra.letter_values[(letter, 0)], order, is_found)
+        _put_value(algebra.letter_values[(letter, 0)], order, is_found)
     size = algebra.masks.count(0)
     at = 0
     while len(order) < size:
         value = order[at]
-        _add_value(algebra.endless_right[value], order, is_found)
-        _add_value(algebra.endless_left[value], order, is_found)
+        _put_value(algebra.endless_right[value], order, is_found)
+        _put_value(algebra.endless_left[value], order, is_found)
         earlier = order[:at + 1]
         for other in earlier:
-            _add_value(algebra.rows[value][other], order, is_found)
-            _add_value(algebra.rows[other][value], order, is_found)
+            _put_value(algebra.rows[value][other], order, is_found)
+            _put_value(algebra.rows[other][value], order, is_found)
         at += 1
     return order
 
 
-def _add_value(value, order, is_found):
+def _put_value(value, order, is_found):
     """Put a value into the order if it is not in it."""
     if not is_found[value]:
         is_found[value] = True

@@ -4,6 +4,51 @@ import itertools
 import random
 
 from helpers import A, B, C, EMPTY, join, left, right, some_places, times
+from scatterwords.formulatext import parse_formula
+
+FIRST = "not some y y < x"
+LAST = "not some y x < y"
+SECOND = "(some y y < x and not some y some z (y < z and z < x))"
+BEHIND = "some y (y next x and {}(y))"
+BEFORE = "some y (x next y and {}(y))"
+NEAR_START = "not some y some z (y < z and z < x)"
+NEAR_END = "not some y some z (x < y and y < z)"
+# x is the first place, or the third one, or the fifth one ..
+ODD = ("some X (x in X and all y ((not y in X or not some z (z next y and z in X)) and "
+       "(y in X or some z (z next y and z in X))))")
+ODD_FROM_RIGHT = ODD.replace("z next y", "y next z")
+# Before x, back to the last place without a place next to it, there is an odd number of b.
+CHANGES = "some z (z next y and ((b(z) and not z in X) or (not b(z) and z in X)))"
+ODD_B = f"some X (x in X and all y ((not y in X or {CHANGES}) and (y in X or not {CHANGES})))"
+
+# Queries that do different things along many copies.
+QUERIES = (
+    "a(x)", "x = x", "x < x", FIRST, LAST, SECOND, NEAR_START, NEAR_END, ODD, ODD_FROM_RIGHT,
+    ODD_B, BEHIND.format("a"), BEHIND.format("b"), BEHIND.format("c"), BEFORE.format("b"),
+    f"(c(x) or {BEFORE.format('c')})", "not some y y next x", "not some y x next y",
+    f"({ODD} and some y y < x)", f"({ODD_FROM_RIGHT} and some y x < y)",
+    f"({ODD} and {NEAR_END})", f"({ODD_FROM_RIGHT} or {NEAR_START})",
+    f"({NEAR_START} and {NEAR_END})", f"({FIRST} or ({SECOND} and b(x)))",
+    "some y (y < x and b(y))", "some y (x < y and c(y))", "all y (y < x or (x = y or b(y)))",
+    "some y some z (y next z and (z next x and (b(y) and c(z))))", "some x c(x)",
+    "(a(x) and not some y (y < x and b(y)))", "(b(x) and all y (x < y or (y = x or a(y))))",
+    "some y (y < x and all z (z < y or (z = y or (z = x or x < z))))",
+)
+# Sentences that tell the order of letters, and what ends.
+SENTENCES = (
+    "some x a(x)", "all x x = x", "all x (b(x) or some y x next y)",
+    f"some x (a(x) and {FIRST})", f"some x (a(x) and {LAST})", f"some x {LAST}",
+    "some x some y ((x next y and not some z y < z) and (b(x) and a(y)))",
+    "some x some y ((x next y and not some z z < x) and (b(x) and a(y)))",
+    "some x some y (x next y and (a(x) and b(y)))",
+    "some x some y (x next y and (c(x) and b(y)))",
+    "some x some y some z ((x next y and y next z) and (a(x) and (b(y) and c(z))))",
+    "all x some y (x < y and c(y))", "some X (some x x in X and all x (not x in X or (b(x) and "
+    "some y (y < x and y in X))))",
+    "all X (not some x x in X or some x (x in X and all y (not y in X or (x = y or x < y))))",
+    "some X (all x all y (not x next y or ((x in X and not y in X) or (not x in X and y in X))) "
+    "and all x ((x in X or some y y < x) and (not x in X or some y x < y)))",
+)
 
 
 def is_true(formula, letters, chosen=None):
@@ -140,10 +185,14 @@ class Maker:
 
     def sentence(self):
         """Return a formula without free variables and with at most three quantifiers nested."""
+        if self.random.random() < 0.4:
+            return parse_formula(self.random.choice(SENTENCES))
         return self.formula([], self.random.randint(1, 7), self.random.choice([2, 3, 3]))
 
     def query(self):
         """Return a formula in which only x may be free."""
+        if self.random.random() < 0.5:
+            return parse_formula(self.random.choice(QUERIES))
         return self.formula(["x"], self.random.randint(1, 5), self.random.choice([0, 1, 2, 3]))
 
     def rules(self):

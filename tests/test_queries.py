@@ -4,7 +4,8 @@ import copy
 import unittest
 
 from helpers import A, B, C, EMPTY, MOST, join, left, nested, right, some_places, times
-from plain import Maker, all_letters, is_true
+from plain import (BEHIND, FIRST, LAST, NEAR_START, ODD, QUERIES, SECOND, Maker, all_letters,
+                   is_true)
 from scatterwords.errors import FreeVariables, InvalidAddress, UnknownName
 from scatterwords.formulatext import parse_formula
 from scatterwords.places import cut, letter_at, walk
@@ -14,14 +15,10 @@ from scatterwords.words import (depth, is_empty, length, letter_count, mirror, n
                                 unmarked)
 from scatterwords.wordtext import format_word, parse_word
 
-BEHIND_A = "some y (y next x and a(y))"
-FIRST = "not some y y < x"
-LAST = "not some y x < y"
+BEHIND_A = BEHIND.format("a")
 HAS_NEXT = "some y x next y"
-NEAR_START = "not some y some z (y < z and z < x)"
-# x is the first place, or the third one, or the fifth one ..
-ODD = ("some X (x in X and all y ((not y in X or not some z (z next y and z in X)) and "
-       "(y in X or some z (z next y and z in X))))")
+ENDLESS = ("a>", "a<", "(ab)>", "(ab)<", "(bca)<b", "c(cb)>", "(a>)>", "(a<b)>", "(ba>)<",
+           "(ab<c)<a", "((ab)^3c)>", "(b(ca)^5)<", "((a>)<b)>", "(b<a>)^3", "c(ab)^7(b<)<")
 
 
 def query_of(text):
@@ -308,6 +305,82 @@ class Ends(unittest.TestCase):
         self.assertEqual(query.last(word), ("place", last))
 
 
+class ManyCopies(unittest.TestCase):
+    """Queries that do different things along copies, compared with holds place by place."""
+
+    def test_finite_numbers_of_copies(self):
+        for text in QUERIES:
+            query = query_of(text)
+            for part, ahead, behind in ((A, EMPTY, EMPTY), (join(A, B), EMPTY, EMPTY), (B, C, A),
+                                        (join(C, A, B), B, C), (times(B, 2), A, EMPTY)):
+                for many in (*range(8), 11, 12):
+                    self.check(query, join(ahead, times(part, many), behind))
+
+    def check(self, query, word):
+        places = some_places(word, 0)
+        hits = [address for address, _ in places if query.holds(word, address)]
+        letters = [letter.upper() if address in hits else letter for address, letter in places]
+        found = query.marked(word)
+        with self.subTest(word=word):
+            self.assertEqual([letter_at(found, address) for address in walk(found, many=100)],
+                             letters)
+            self.assertEqual(query.total(word), len(hits))
+            self.assertEqual(query.first(word), ("place", hits[0]) if hits else ("none",))
+            self.assertEqual(query.last(word), ("place", hits[-1]) if hits else ("none",))
+
+    def test_endlessly_many_copies(self):
+        for text in QUERIES:
+            query = query_of(text)
+            for word_text in ENDLESS:
+                word = parse_word(word_text)
+                few, many = hits_of(query, word, 6), hits_of(query, word, 8)
+                with self.subTest(text=text, word=word_text):
+                    self.assertEqual(query.total(word), len(few) if few == many else None)
+                    self.check_end(query.first(word), few[:1], many[:1])
+                    self.check_end(query.last(word), few[-1:], many[-1:])
+
+    def check_end(self, end, few, many):
+        """Check an end by the list of the first or last hit among fewer and more copies."""
+        if not many:
+            self.assertEqual(end, ("none",))
+        else:
+            self.assertEqual(end, ("place", many[0]) if few == many else ("endless",))
+
+    def test_marks_of_endlessly_many_copies(self):
+        for text in QUERIES:
+            query = query_of(text)
+            for word_text in ENDLESS:
+                word = parse_word(word_text)
+                found = query.marked(word)
+                shown = [letter_at(found, address) for address in walk(found, many=20)]
+                self.assertEqual(shown, [self.marked_letter(query, *cut(word, address))
+                                         for address in walk(word, many=20)])
+                # From the right: the places of the mirrored words.
+                turned, turned_word = mirror(found), mirror(word)
+                shown = [letter_at(turned, address) for address in walk(turned, many=20)]
+                expected = []
+                for address in walk(turned_word, many=20):
+                    behind, letter, ahead = cut(turned_word, address)
+                    expected.append(self.marked_letter(query, mirror(ahead), letter,
+                                                       mirror(behind)))
+                self.assertEqual(shown, expected)
+
+    def marked_letter(self, query, ahead, letter, behind):
+        return letter.upper() if query.holds_between(ahead, letter, behind) else letter
+
+    def test_few_copies_before_those_that_repeat(self):
+        # Only the second of endlessly many copies, or only the first one.
+        for text, word, first, last in (
+                (SECOND, "a>", ("place", (1,)), ("place", (1,))),
+                (SECOND, "a<", ("none",), ("none",)),
+                (f"({FIRST} or ({SECOND} and b(x)))", "a>", ("place", (0,)), ("place", (0,))),
+                (f"({LAST} or some y (x next y and (b(y) and not some z y < z)))", "a<",
+                 ("place", (0,)), ("place", (0,)))):
+            query = query_of(text)
+            self.assertEqual(query.first(parse_word(word)), first)
+            self.assertEqual(query.last(parse_word(word)), last)
+
+
 class Marked(unittest.TestCase):
     def test_finite_words(self):
         for text, word, letters in (
@@ -387,6 +460,16 @@ class Marked(unittest.TestCase):
             word = times(word, MOST)
         self.assertLess(node_count(query_of(FIRST).marked(word)), 300)
         self.assertLess(node_count(query_of(FIRST).marked(nested(A, 19))), 300)
+
+    def test_equal_copies_stay_copies(self):
+        for text, word, nodes in (
+                ("x = x", f"(ab)^{MOST}", 4), (FIRST, f"a^{MOST}", 4), (LAST, "a<", 4),
+                (SECOND, "a>", 5), (ODD, "a^8", 4), (ODD, "a^9", 6), (ODD, "a>", 4),
+                (f"({ODD} and b(x))", "a^9", 2), (f"({ODD} and b(x))", "a>", 2),
+                (f"({NEAR_START} and b(x))", "a>", 2), (f"({NEAR_START} and b(x))", "a^9", 2),
+                (NEAR_START, f"a^{MOST}", 5), (NEAR_START, "(ab)>", 7)):
+            self.assertEqual(node_count(query_of(text).marked(parse_word(word))), nodes,
+                             (text, word))
 
     def test_nothing_is_said_of_letters_without_a_hit(self):
         word = parse_word(f"(abc)^{MOST}(ab)>c<")

@@ -4,7 +4,9 @@ import copy
 import unittest
 
 from helpers import A, B, C, EMPTY, MOST, join, left, nested, right, some_places, times
-from plain import Maker, all_letters, count_of_different_values, is_true, values_as_found
+from plain import (BEHIND, FIRST, LAST, NEAR_END, ODD, ODD_FROM_RIGHT, QUERIES, SECOND,
+                   SENTENCES, Maker, all_letters, count_of_different_values, is_true,
+                   values_as_found)
 from scatterwords import steps
 from scatterwords.errors import (FreeVariables, InvalidAddress, InvalidLetters, TooLarge,
                                  UnknownName)
@@ -16,11 +18,11 @@ from scatterwords.tables import Table, compiled, within
 from scatterwords.words import depth, is_empty, length, letter_count, mirror, node_count
 from scatterwords.wordtext import format_word, parse_word
 
-FIRST = "not some y y < x"
-LAST = "not some y x < y"
-BEHIND_A = "some y (y next x and a(y))"
+BEHIND_A = BEHIND.format("a")
 TRUE = "x = x"
 GOOD = ("a(x)", "b")
+WORDS = ("", "a", "abc", "cbab", "(ab)^5", "b^9c", "a>", "c<", "(ab)>", "(bc)<", "c(ab)>(cb)<a",
+         "(a>)>", "((ab)<c)<", "(b>a)<", "(ca<)>", f"(cba)^{MOST}", f"((ab)^{MOST - 1}c)>")
 
 
 def step_of(*rules):
@@ -39,12 +41,7 @@ def result(step, word):
 
 
 def some_tables():
-    texts = ("some x a(x)", "some x some y (x next y and (a(x) and b(y)))",
-             "all x some y (x < y and c(y))", "some x all y (y < x or y = x)",
-             "all x (b(x) or some y x next y)", "some x x = x",
-             "some X (all x all y (not x next y or ((x in X and not y in X) or (not x in X and "
-             "y in X))) and all x ((x in X or some y y < x) and (not x in X or some y x < y)))")
-    return [table_of(text) for text in texts]
+    return [table_of(text) for text in SENTENCES]
 
 
 class Making(unittest.TestCase):
@@ -298,6 +295,34 @@ class PulledBack(unittest.TestCase):
                 word = maker.word(4)
                 self.assertIs(word in found, step.run(word) in table)
 
+    def test_what_changes_along_copies(self):
+        tables = some_tables()
+        words = [parse_word(text) for text in WORDS]
+        for text in QUERIES:
+            for letters in ("", "b", "ba"):
+                step = step_of((text, letters))
+                results = [step.run(word) for word in words]
+                for table in tables:
+                    found = step.pulled_back(table)
+                    self.assertEqual([word in found for word in words],
+                                     [result in table for result in results], (text, letters))
+
+    def test_copies_to_the_left_in_their_order(self):
+        ends_in_ba = table_of("some x some y ((x next y and not some z y < z) and (b(x) and a(y)))")
+        for rules, word, answer in (
+                ([(LAST, "a"), (NEAR_END, "b")], "c<", True),
+                ([(LAST, "b"), (NEAR_END, "a")], "c<", False),
+                ([(ODD_FROM_RIGHT, "a"), (TRUE, "b")], "c<", True),
+                ([(ODD_FROM_RIGHT, "b"), (TRUE, "a")], "c<", False),
+                ([(LAST, ""), (ODD_FROM_RIGHT, "b"), (TRUE, "a")], "c<", True)):
+            step = step_of(*rules)
+            self.assertIs(step.run(parse_word(word)) in ends_in_ba, answer)
+            self.assertIs(parse_word(word) in step.pulled_back(ends_in_ba), answer)
+        begins_with_ab = table_of("some x some y ((x next y and not some z z < x) and (a(x) and b(y)))")
+        for rules, answer in (([(FIRST, "a"), (SECOND, "b")], True), ([(ODD, "a"), (TRUE, "b")], True),
+                              ([(ODD, "b"), (TRUE, "a")], False)):
+            self.assertIs(parse_word("c>") in step_of(*rules).pulled_back(begins_with_ab), answer)
+
     def test_pulled_through_by_acceptance(self):
         maker = Maker(26)
         for _ in range(25):
@@ -392,6 +417,29 @@ class Difference(unittest.TestCase):
                 ([("some y y next x", "b")], [("some y y < x", "b")]),
                 ([("all x some y x < y", "")], [])):
             self.check(step_of(*one), step_of(*other), True)
+
+    def test_the_place_is_just_where_they_differ(self):
+        for text, many_ahead, many_behind in (
+                (FIRST, 0, None), (LAST, None, 0), (SECOND, 1, None),
+                (f"({NEAR_END} and not {LAST})", None, 1), (f"({FIRST} and {LAST})", 0, 0),
+                (f"({SECOND} and {LAST})", 1, 0), (f"({FIRST} and not {LAST})", 0, None)):
+            for one, other in ((step_of((text, "")), Step()), (Step(), step_of((text, "")))):
+                ahead, letter, behind = one.difference(other)
+                self.assertIn(letter, "abc")
+                if many_ahead is not None:
+                    self.assertEqual(length(ahead), many_ahead)
+                if many_behind is not None:
+                    self.assertEqual(length(behind), many_behind)
+
+    def test_each_two_queries(self):
+        steps_of_queries = [step_of((text, "ab")) for text in QUERIES]
+        for one in steps_of_queries:
+            for other in steps_of_queries:
+                found = one.difference(other)
+                if found is None:
+                    self.assertIs(one, other)
+                else:
+                    self.assertNotEqual(one.letters_between(*found), other.letters_between(*found))
 
     def test_many(self):
         maker = Maker(29)
