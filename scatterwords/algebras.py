@@ -3,14 +3,10 @@
 Variables are chosen at the places of a word: a place variable at one place at most, a set
 variable at any places. An algebra has a value for each class of such words that nothing
 around them tells apart. The value of a word follows from the values of its parts.
-
-Each variable has a bit, and several variables are the sum of their bits, a mask.
 """
 
+from scatterwords.masks import PLACE_BITS, masks_within
 from scatterwords.words import LETTERS, joined, repeated
-
-BITS = {"x": 1, "y": 2, "z": 4, "X": 8, "Y": 16, "Z": 32}
-PLACE_BITS = 7
 
 # The value of the empty word, and that of all words in which a place variable is chosen twice.
 NOTHING = 0
@@ -138,15 +134,6 @@ class Exploration:
                 row.append(self.steps[at][row[before]])
             found.append(row)
         return found
-
-
-def masks_within(mask):
-    """Return the list of all masks of variables that are in a mask."""
-    found = [0]
-    for bit in BITS.values():
-        if mask & bit:
-            found = found + [other | bit for other in found]
-    return found
 
 
 def least_algebra(source):

@@ -1,7 +1,8 @@
 """From formulas to algebras."""
 
-from scatterwords.algebras import BITS, least_algebra, relabelled
+from scatterwords.algebras import least_algebra, relabelled
 from scatterwords.formulas import PLACES, QUANTIFIERS
+from scatterwords.masks import BITS
 from scatterwords.sources import AtomSource, JointSource, PlaceSource, SetSource
 
 

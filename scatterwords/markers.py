@@ -1,6 +1,7 @@
 """Markers: the label of a place of a word, by what is before the place and behind it."""
 
-from scatterwords.algebras import BITS, word_value
+from scatterwords.algebras import word_value
+from scatterwords.masks import BITS
 from scatterwords.words import LETTERS
 
 

@@ -1,10 +1,11 @@
 """Queries: at which places of a word a formula holds."""
 
-from scatterwords.algebras import BITS, least_algebra
+from scatterwords.algebras import least_algebra
 from scatterwords.compiling import algebra_of, any_true
 from scatterwords.errors import FreeVariables, UnknownName
 from scatterwords.formulas import formula_names, free_variables
 from scatterwords.markers import Marker
+from scatterwords.masks import BITS
 from scatterwords.places import cut
 from scatterwords.scans import ENDLESS, Scan
 from scatterwords.sources import JointSource

@@ -4,7 +4,9 @@ A source describes each word in which variables are chosen by a key, so that the
 larger word follows from the keys of its parts, and whether a formula is true from the key.
 """
 
-from scatterwords.algebras import BITS, NOTHING, PLACE_BITS
+from scatterwords.algebras import NOTHING
+from scatterwords.masks import BITS, PLACE_BITS, bits_of, mask_of
+from scatterwords.orders import Order
 
 
 class AtomSource:
@@ -119,11 +121,13 @@ class JointSource:
 class PlaceSource:
     """The source of "some place": keys have the value for no place, and the mask for some place.
 
-    Bit v of this mask says whether the place can be chosen so that the value is v.
+    Bit v of this mask says whether the place can be chosen so that the value is v. Values
+    that others are above are left out, so that there are far fewer masks.
     """
 
     def __init__(self, algebra, bit):
         self.algebra = algebra
+        self.order = Order(algebra)
         self.bit = bit
         self.variables = algebra.variables - bit
 
@@ -143,7 +147,7 @@ class PlaceSource:
             found = found | (1 << rows[value][without_behind])
         for value in bits_of(chosen_behind):
             found = found | (1 << rows[without][value])
-        return (rows[without][without_behind], found)
+        return (rows[without][without_behind], self.order.greatest(found))
 
     def right_key(self, one):
         rows = self.algebra.rows
@@ -155,7 +159,7 @@ class PlaceSource:
             while not found & (1 << value):
                 found = found | (1 << value)
                 value = rows[one[0]][value]
-        return (endless, found)
+        return (endless, self.order.greatest(found))
 
     def left_key(self, one):
         rows = self.algebra.rows
@@ -166,7 +170,7 @@ class PlaceSource:
             while not found & (1 << value):
                 found = found | (1 << value)
                 value = rows[value][one[0]]
-        return (endless, found)
+        return (endless, self.order.greatest(found))
 
     def label_of(self, key):
         return True in [self.algebra.labels[value] for value in bits_of(key[1])]
@@ -175,11 +179,13 @@ class PlaceSource:
 class SetSource:
     """The source of "some set": keys are masks.
 
-    Bit v of a mask says whether the set can be chosen so that the value is v.
+    Bit v of a mask says whether the set can be chosen so that the value is v. Values that
+    others are above are left out, so that there are far fewer masks.
     """
 
     def __init__(self, algebra, bit):
         self.algebra = algebra
+        self.order = Order(algebra)
         self.bit = bit
         self.variables = algebra.variables - bit
 
@@ -188,7 +194,8 @@ class SetSource:
 
     def letter_key(self, letter, mask):
         values = self.algebra.letter_values
-        return (1 << values[(letter, mask)]) | (1 << values[(letter, mask | self.bit)])
+        return self.order.greatest(mask_of([values[(letter, mask)],
+                                            values[(letter, mask | self.bit)]]))
 
     def product_key(self, one, other):
         """Return the mask of the products of values in two masks."""
@@ -199,26 +206,26 @@ class SetSource:
             row = rows[value]
             for other_value in behind:
                 found = found | (1 << row[other_value])
-        return found
+        return self.order.greatest(found)
 
     def right_key(self, one):
         # However the set is chosen in the copies, they can be grouped so that all groups but
         # the first one have equal values: so the value is s before endlessly many e, with two
         # products s and e of values that the set can give to one copy.
         endless = self.algebra.endless_right
-        found = new = _mask_of([endless[value] for value in bits_of(self._powers(one))])
+        found = new = mask_of([endless[value] for value in bits_of(self._powers(one))])
         while new:
             new = self.product_key(one, new) & ~found
             found = found | new
-        return found
+        return self.order.greatest(found)
 
     def left_key(self, one):
         endless = self.algebra.endless_left
-        found = new = _mask_of([endless[value] for value in bits_of(self._powers(one))])
+        found = new = mask_of([endless[value] for value in bits_of(self._powers(one))])
         while new:
             new = self.product_key(new, one) & ~found
             found = found | new
-        return found
+        return self.order.greatest(found)
 
     def label_of(self, key):
         return True in [self.algebra.labels[value] for value in bits_of(key)]
@@ -230,24 +237,6 @@ class SetSource:
             new = self.product_key(new, mask) & ~found
             found = found | new
         return found
-
-
-def bits_of(mask):
-    """Return the list of the numbers of the bits in a mask, ascending."""
-    found = []
-    while mask:
-        low = mask & -mask
-        found.append(low.bit_length() - 1)
-        mask = mask - low
-    return found
-
-
-def _mask_of(values):
-    """Return the mask with some bits."""
-    found = 0
-    for value in values:
-        found = found | (1 << value)
-    return found
 
 
 def _sign(is_chosen, is_true):

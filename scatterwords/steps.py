@@ -1,10 +1,11 @@
 """Steps: all places of a word are replaced at once, each by the letters of a rule."""
 
-from scatterwords.algebras import (BITS, Exploration, least_algebra, recipes_to, witness_of)
+from scatterwords.algebras import Exploration, least_algebra, recipes_to, witness_of
 from scatterwords.changes import ChangeSource
 from scatterwords.compiling import algebra_of
 from scatterwords.errors import InvalidLetters, TooLarge
 from scatterwords.markers import Marker
+from scatterwords.masks import BITS
 from scatterwords.places import cut
 from scatterwords.queries import check_query
 from scatterwords.scans import Scan

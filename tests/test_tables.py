@@ -235,6 +235,19 @@ class Compiled(unittest.TestCase):
         self.assertIn(parse_word("(abca)>"), table)
         self.assertNotIn(parse_word("(abcb)>"), table)
 
+    def test_formulas_that_ask_for_many_values(self):
+        text = ("some x all z (not all y ((((((a(y) or not y < z) and ((y < x or not z next x) or "
+                "a(z))) and not b(x)) or (c(y) or x next z)) or x next y) and (not y next x or "
+                "b(z))) or (all z not (a(z) and x < z) and (x next z or all y x < z)))")
+        formula = parse_formula(text)
+        table = compiled(formula)
+        self.assertEqual(count_of_different_values(table), table.size)
+        for letters in all_letters(3)[::2]:
+            self.assertIs(parse_word(letters) in table, is_true(formula, letters))
+        for word in ("(ab)>", "a<", "(ab)<c", "b>a<"):
+            word = parse_word(word)
+            self.assertIs(word in table, is_true_in_endless(formula, word, (3, 5, 7)))
+
     def test_free_variables_come_first(self):
         for text, variables in (("a(x)", ["x"]), ("(x in X and {oak})", ["X", "x"]),
                                 ("some x (x < y or (z in Z and {oak}))", ["Z", "y", "z"]),
