@@ -160,7 +160,8 @@ def least_algebra(source):
 def _colors(exploration):
     """Return numbers of the values, equal for those that nothing around them tells apart."""
     size = len(exploration.known_keys)
-    actions = [*exploration.steps, *exploration.left_steps(),
+    left_steps = exploration.left_steps()
+    actions = [*exploration.steps, *left_steps,
                exploration.endless_right, exploration.endless_left]
     kinds = {}
     colors = [kinds.setdefault(kind, len(kinds))

@@ -251,5 +251,6 @@ class WatchBook(Book):
 
 def _stays(name, before, after):
     """Return whether a name, and all that it uses, is the same in both entries."""
-    names = [name, *all_uses(before, name)]
+    names = all_uses(before, name)
+    names.append(name)
     return all([other in after and before[other] == after[other] for other in names])

@@ -38,8 +38,8 @@ def _values_above(algebra):
 
 def _actions(algebra):
     """Return lists of what becomes of each value if something is put around its words."""
-    generators = [*algebra.letter_values.values(), *algebra.endless_right, *algebra.endless_left]
-    generators = sorted(set(generators))
+    letters = list(algebra.letter_values.values())
+    generators = sorted(set([*letters, *algebra.endless_right, *algebra.endless_left]))
     found = [algebra.rows[generator] for generator in generators]
     for generator in generators:
         found.append([row[generator] for row in algebra.rows])
